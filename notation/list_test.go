@@ -125,10 +125,10 @@ func TestReadInts(t *testing.T) {
 		e    api.Errno
 	}{
 		{"", 0, api.ErrSyntax}, {"   ", 3, api.ErrSyntax}, {"5", 0, api.ErrSyntax}, {" -5", 1, api.ErrSyntax}, {"a b", 2, api.ErrSyntax}, {"a 1 b", 4, api.ErrSyntax}, {"a 1, 2", 3, api.ErrSyntax}, {"a +1", 2, api.ErrSyntax}, {"a:", 1, api.ErrSyntax},
-		// No number begins at a sign with nothing, with 0 or with another sign behind it.
-		{"a -", 2, api.ErrSyntax}, {"a 5 - 0", 4, api.ErrSyntax}, {"a -b", 2, api.ErrSyntax}, {"a --1", 2, api.ErrSyntax},
+		// A sign can stand there, but nothing behind it but a number other than 0.
+		{"e-", 2, api.ErrSyntax}, {"a -", 3, api.ErrSyntax}, {"a -  ", 5, api.ErrSyntax}, {"a -0", 3, api.ErrSyntax}, {"a 5 - 0", 6, api.ErrSyntax}, {"a -0 1", 3, api.ErrSyntax}, {"a -b", 3, api.ErrSyntax}, {"a - b 1048577", 4, api.ErrSyntax}, {"a --1", 3, api.ErrSyntax}, {"a - -1", 4, api.ErrSyntax}, {"a ---", 3, api.ErrSyntax}, {"a -,", 3, api.ErrSyntax}, {"a 1-+2", 4, api.ErrSyntax}, {"a -1-0", 5, api.ErrSyntax}, {"-", 0, api.ErrSyntax}, {"-a", 0, api.ErrSyntax}, {"a +-1", 2, api.ErrSyntax},
 		{"a 1048577", 2, api.ErrRange}, {"a 5 -1048577", 4, api.ErrRange}, {"a - 1048577 b", 2, api.ErrRange}, {"a 1099511627777", 2, api.ErrRange}, {"a -99999999999999999999", 2, api.ErrRange}, {"a " + strings.Repeat("9", 1024), 2, api.ErrRange}, {"a 1048577 b", 2, api.ErrRange}, {"a b 1048577", 2, api.ErrSyntax},
-		{many + " 0", 514, api.ErrMany}, {many + "-  5", 513, api.ErrMany}, {many + " 8 b", 514, api.ErrMany}, {many + " b", 514, api.ErrSyntax}, {many + " 1048577", 514, api.ErrRange}, {many + " -", 514, api.ErrSyntax},
+		{many + " 0", 514, api.ErrMany}, {many + "-  5", 513, api.ErrMany}, {many + " 8 b", 514, api.ErrMany}, {many + " b", 514, api.ErrSyntax}, {many + " 1048577", 514, api.ErrRange}, {many + " -", 515, api.ErrSyntax}, {many + " - 0", 516, api.ErrSyntax}, {many + " -1048577", 514, api.ErrRange},
 		// The errors of the lexer come first, wherever they are.
 		{"5 ?", 2, api.ErrSyntax}, {"5 007", 2, api.ErrForm}, {"a b " + strings.Repeat("q", 25), 4, api.ErrLong}, {"a -" + strings.Repeat("9", 1025), 3, api.ErrLarge}, {"?" + strings.Repeat(" ", 4096), 0, api.ErrLong}, {"a" + strings.Repeat(" ", 4096), 0, api.ErrLong}, {"A", 0, api.ErrSyntax},
 	} {

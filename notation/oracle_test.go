@@ -97,13 +97,8 @@ func (o *oracle) read() {
 	if o.known == len(o.letters) {
 		return
 	}
-	at := o.known
-	// No number begins at a sign with nothing suitable behind it.
-	if o.word == "" && strings.HasSuffix(o.letters[:at], "-") {
-		at--
-	}
-	o.add(at, at, api.ErrSyntax)
-	o.letters, o.known = o.letters[:at], at
+	o.add(o.known, o.known, api.ErrSyntax)
+	o.letters = o.letters[:o.known]
 }
 
 // add adds a fault at a token, found behind another one.
@@ -128,7 +123,9 @@ func (o *oracle) ints() {
 		case '$':
 			return
 		case '-':
-			i++
+			if i++; i == o.known {
+				return
+			}
 		}
 		if n, err := strconv.Atoi(o.tokens[i].Text); err != nil || n > 1<<20 {
 			o.add(at, at, api.ErrRange)

@@ -88,6 +88,9 @@ func (r *reader) signed(least, greatest int) int {
 	n, next, e := lexer.Signed(r.tokens, r.next)
 	switch {
 	case e == api.ErrSyntax:
+		if r.isAt("-") { // The sign can stand there, but not what is behind it.
+			r.next++
+		}
 		r.failSyntax()
 		return 0
 	case e != api.OK || !isBetween(n, least, greatest): // A number that is too large for the lexer is out of every range.
